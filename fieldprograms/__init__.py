@@ -1,0 +1,1 @@
+"""Text programs that build a text from constants and parts of a record's fields."""

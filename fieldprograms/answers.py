@@ -1,0 +1,36 @@
+"""The answers that come in the place of what a call tells."""
+
+
+class OtherAnswer(Exception):
+    """Bears the whole answer, so that every call hands it on in the same way."""
+
+    def __init__(self, answer):
+        self.answer = answer
+
+
+class ProgramTooLong(OtherAnswer):
+    """A program's text has more bytes than may be read."""
+
+    def __init__(self):
+        OtherAnswer.__init__(self, [-5])
+
+
+class ProgramFault(OtherAnswer):
+    """A text isn't a program text."""
+
+    def __init__(self, kind, place):
+        OtherAnswer.__init__(self, [kind, place])
+
+
+class NoRecord(OtherAnswer):
+    """A record isn't 1 to 4 fields."""
+
+    def __init__(self):
+        OtherAnswer.__init__(self, [-1])
+
+
+class PieceGivesNothing(OtherAnswer):
+    """A program gives nothing, because the piece of this number gives nothing."""
+
+    def __init__(self, number):
+        OtherAnswer.__init__(self, [1, number])

@@ -1,0 +1,38 @@
+"""Reading a record."""
+
+from fieldprograms.answers import NoRecord
+from fieldprograms.classes import holds
+
+MOST_FIELDS = 4
+MOST_FIELD_BYTES = 40
+FIELD_BYTES = ((32, 126),)
+
+
+def read_record(numbers):
+    """The record's fields, from a list that has before each field how many bytes it has."""
+    fields = split_record(numbers)
+    if not 1 <= len(fields) <= MOST_FIELDS:
+        raise NoRecord()
+    for text in fields:
+        if not is_field(text):
+            raise NoRecord()
+    return fields
+
+
+def split_record(numbers):
+    texts = []
+    place = 0
+    while place < len(numbers):
+        begin = place + 1
+        place = begin + numbers[place]
+        texts.append(numbers[begin:place])
+    return texts
+
+
+def is_field(text):
+    if len(text) > MOST_FIELD_BYTES:
+        return False
+    for byte in text:
+        if not holds(FIELD_BYTES, byte):
+            return False
+    return True

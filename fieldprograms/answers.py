@@ -20,6 +20,15 @@ class ProgramFault(OtherAnswer):
 
     def __init__(self, kind, place):
         OtherAnswer.__init__(self, [kind, place])
+        self.kind = kind
+        self.place = place
+
+
+class TooManyPieces(OtherAnswer):
+    """Two programs have together more pieces than one may have."""
+
+    def __init__(self):
+        OtherAnswer.__init__(self, [-3])
 
 
 class NoRecord(OtherAnswer):

@@ -3,6 +3,8 @@
 A class is a tuple of ranges, each its lowest and its highest byte; the empty class has no range.
 """
 
+from fieldprograms.signs import as_bytes
+
 CLASS_RANGES = {
     "D": ((48, 57),),
     "L": ((97, 122),),
@@ -14,6 +16,14 @@ CLASS_RANGES = {
 }
 
 EMPTY_CLASS = ()
+
+
+def class_written(ranges):
+    for sign in CLASS_RANGES:
+        if CLASS_RANGES[sign] == ranges:
+            return as_bytes(sign)
+    # No sign tells it, so it is the class of one byte alone.
+    return as_bytes("'") + [ranges[0][0]]
 
 
 def holds(ranges, byte):

@@ -1,8 +1,8 @@
 """The calls. Each is by itself, and answers one list of whole numbers."""
 
 from fieldprograms.answers import OtherAnswer
-from fieldprograms.programs import all_given, piece_costs
-from fieldprograms.reader import read_program
+from fieldprograms.programs import all_given, joined, order_key, piece_costs, program_written
+from fieldprograms.reader import read_program, read_second_program
 from fieldprograms.records import read_record
 
 
@@ -50,6 +50,31 @@ def cost(program):
         return other.answer
     costs = piece_costs(pieces)
     return [0, sum(costs)] + costs
+
+
+def compare(p, q):
+    """Which of the two programs is ahead: 1 the first, 2 the second, 0 if they are the same."""
+    try:
+        first = read_program(p)
+        second = read_second_program(q)
+    except OtherAnswer as other:
+        return other.answer
+    if order_key(first) < order_key(second):
+        return [0, 1]
+    if order_key(second) < order_key(first):
+        return [0, 2]
+    return [0, 0]
+
+
+def join(p, q):
+    """The first program's pieces and then the second's, written."""
+    try:
+        first = read_program(p)
+        second = read_second_program(q)
+        pieces = joined(first, second)
+    except OtherAnswer as other:
+        return other.answer
+    return [0] + program_written(pieces)
 
 
 def given_on(program, record):

@@ -1,6 +1,7 @@
-"""Pieces: what they give on a record, and what they cost."""
+"""Pieces: what they give on a record, what they cost, and how they are written."""
 
 from fieldprograms.classes import CLASS_RANGES, holds
+from fieldprograms.signs import as_bytes
 
 LETTER_STEP = 32
 
@@ -50,6 +51,15 @@ class Constant:
     def cost(self):
         return 3 + 2 * len(self.text)
 
+    def written(self):
+        inner = []
+        for byte in self.text:
+            # A quote alone would end the constant, so one among its bytes is written twice.
+            if byte == ord('"'):
+                inner.append(byte)
+            inner.append(byte)
+        return as_bytes('"') + inner + as_bytes('"')
+
 
 class Part:
     """The bytes between two positions of a field."""
@@ -76,3 +86,8 @@ class Part:
         if self.turn != "":
             total += 3
         return total
+
+    def written(self):
+        begin = as_bytes(str(self.field) + "[") + self.first.written()
+        end = as_bytes(":") + self.second.written() + as_bytes("]" + self.turn)
+        return begin + end

@@ -1,6 +1,12 @@
-"""Positions: where they stand in a text, and what they cost."""
+"""Positions: where they stand in a text, what they cost, and how they are written."""
 
-from fieldprograms.classes import EMPTY_CLASS, border_places
+from fieldprograms.classes import EMPTY_CLASS, border_places, class_written
+from fieldprograms.signs import as_bytes
+
+
+def count_written(from_right, count):
+    direction = "-" if from_right else "+"
+    return as_bytes(direction + str(count))
 
 
 class EndPosition:
@@ -22,6 +28,9 @@ class EndPosition:
         if self.distance == 0:
             return 1
         return 5
+
+    def written(self):
+        return count_written(self.from_right, self.distance)
 
 
 class BorderPosition:
@@ -51,3 +60,7 @@ class BorderPosition:
         if self.from_right:
             total += 1
         return total
+
+    def written(self):
+        classes = class_written(self.left) + as_bytes("|") + class_written(self.right)
+        return classes + count_written(self.from_right, self.rank)

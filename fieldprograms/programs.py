@@ -1,10 +1,34 @@
-"""What a program costs, and what its pieces give on a record."""
+"""Programs, as lists of pieces: what they cost and give, their order, and how they are joined and written."""
 
-from fieldprograms.answers import PieceGivesNothing
+from fieldprograms.answers import PieceGivesNothing, TooManyPieces
+from fieldprograms.signs import as_bytes
+
+MOST_PIECES = 6
 
 
 def piece_costs(pieces):
     return [piece.cost() for piece in pieces]
+
+
+def order_key(pieces):
+    """Of two programs the one with the smaller key is ahead: lists are compared as programs and texts are."""
+    piece_keys = [[piece.cost(), piece.written()] for piece in pieces]
+    return [sum(piece_costs(pieces)), len(pieces), piece_keys]
+
+
+def joined(first, second):
+    if len(first) + len(second) > MOST_PIECES:
+        raise TooManyPieces()
+    return first + second
+
+
+def program_written(pieces):
+    if len(pieces) == 0:
+        return as_bytes("0")
+    written = pieces[0].written()
+    for piece in pieces[1:]:
+        written = written + as_bytes("&") + piece.written()
+    return written
 
 
 def all_given(pieces, fields):

@@ -5,9 +5,10 @@ from fieldprograms.classes import CLASS_RANGES, EMPTY_CLASS, holds
 from fieldprograms.cursor import Cursor
 from fieldprograms.pieces import Constant, Part
 from fieldprograms.positions import BorderPosition, EndPosition
+from fieldprograms.programs import MOST_PIECES
 
 MOST_PROGRAM_BYTES = 1000
-MOST_PIECES = 6
+SECOND_KIND_STEP = 20
 MOST_CONSTANT_BYTES = 12
 MOST_DIGITS = 2
 MOST_DISTANCE = 60
@@ -31,6 +32,14 @@ def read_program(text):
     if not cursor.at_end():
         raise ProgramFault(1, cursor.place)
     return pieces
+
+
+def read_second_program(text):
+    """As read_program, with faults that are told from those of a first program."""
+    try:
+        return read_program(text)
+    except ProgramFault as fault:
+        raise ProgramFault(fault.kind + SECOND_KIND_STEP, fault.place) from None
 
 
 def read_pieces(cursor):

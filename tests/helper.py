@@ -4,6 +4,25 @@ import unittest
 
 EXAMPLE = '1[B|.+1:-0]^&", "&1[+0:+1]&"."'
 
+SIX = "&".join(['"a"'] * 6)
+SEVEN = "&".join(['"a"'] * 7)
+THOUSAND_BYTES = '"' + "a" * 998 + '"'
+TOO_LONG = '"' + "a" * 999 + '"'
+
+# Texts with a fault of each kind, and what is answered to a first program that is so.
+FAULTS = (
+    ("", [1, 0]), ("0&", [1, 1]), ("1[+0:-0", [1, 7]), ('"a"&', [1, 4]), ("5[+0:-0]", [1, 0]), ([200], [1, 0]),
+    ('""', [2, 0]), ('"a"&"abcdefghijklm"', [2, 4]), (THOUSAND_BYTES, [2, 0]),
+    ("1[+61:-0]", [3, 3]), ("1[D|L+0:-0]", [3, 6]), ("1[+0:-007]", [3, 6]),
+    ("1[.|.+1:-0]", [4, 2]), ("1[+0:.|.-9]", [4, 5]),
+    (SEVEN, [5, 24]), (SIX + "&", [5, 24]),
+)
+
+
+def as_second(fault):
+    """What is answered, if a second program has the fault."""
+    return [fault[0] + 20, fault[1]]
+
 
 def text(letters):
     return list(letters.encode("latin-1"))
@@ -45,7 +64,8 @@ class CallCase(unittest.TestCase):
         self.assertEqual(again, before)
         return first
 
-    def assert_answer(self, expected, call, program, *records):
-        arguments = [text(program) if isinstance(program, str) else program, *records]
-        with self.subTest(program=program, records=records):
-            self.assertEqual(self.ask(call, *arguments), expected)
+    def assert_answer(self, expected, call, *arguments):
+        """arguments: texts told by letters, or lists as the call takes them."""
+        numbers = [text(argument) if isinstance(argument, str) else argument for argument in arguments]
+        with self.subTest(arguments=arguments):
+            self.assertEqual(self.ask(call, *numbers), expected)

@@ -31,8 +31,29 @@ class TooManyPieces(OtherAnswer):
         OtherAnswer.__init__(self, [-3])
 
 
+class NoPosition(OtherAnswer):
+    """A text isn't just one position."""
+
+    def __init__(self):
+        OtherAnswer.__init__(self, [-4])
+
+
+class NoClass(OtherAnswer):
+    """A text isn't just one class, or both of two classes are empty."""
+
+    def __init__(self):
+        OtherAnswer.__init__(self, [-4])
+
+
+class NoField(OtherAnswer):
+    """A text is no field."""
+
+    def __init__(self):
+        OtherAnswer.__init__(self, [-1])
+
+
 class NoRecord(OtherAnswer):
-    """A record isn't 1 to 4 fields."""
+    """A record has no fields or too many."""
 
     def __init__(self):
         OtherAnswer.__init__(self, [-1])

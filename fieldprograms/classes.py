@@ -18,6 +18,10 @@ CLASS_RANGES = {
 EMPTY_CLASS = ()
 
 
+def both_empty(left, right):
+    return left == EMPTY_CLASS and right == EMPTY_CLASS
+
+
 def class_written(ranges):
     for sign in CLASS_RANGES:
         if CLASS_RANGES[sign] == ranges:

@@ -1,9 +1,10 @@
 """The calls. Each is by itself, and answers one list of whole numbers."""
 
 from fieldprograms.answers import OtherAnswer
+from fieldprograms.classes import border_places
 from fieldprograms.programs import all_given, joined, order_key, piece_costs, program_written
-from fieldprograms.reader import read_program, read_second_program
-from fieldprograms.records import read_record
+from fieldprograms.reader import read_class_pair, read_lone_position, read_program, read_second_program
+from fieldprograms.records import check_field, read_record
 
 
 def read(program):
@@ -75,6 +76,29 @@ def join(p, q):
     except OtherAnswer as other:
         return other.answer
     return [0] + program_written(pieces)
+
+
+def place(position, t):
+    """Where the position stands in the text; 1 if nowhere."""
+    try:
+        found = read_lone_position(position)
+        check_field(t)
+    except OtherAnswer as other:
+        return other.answer
+    where = found.place_in(t)
+    if where is None:
+        return [1]
+    return [0, where]
+
+
+def borders(l, r, t):
+    """All borders of the two classes in the text."""
+    try:
+        classes = read_class_pair(l, r)
+        check_field(t)
+    except OtherAnswer as other:
+        return other.answer
+    return [0] + border_places(classes[0], classes[1], t)
 
 
 def given_on(program, record):

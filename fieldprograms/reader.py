@@ -1,7 +1,7 @@
-"""Reading a program's text."""
+"""Reading a program's text, and a position or a class that stands alone."""
 
-from fieldprograms.answers import ProgramFault, ProgramTooLong
-from fieldprograms.classes import CLASS_RANGES, EMPTY_CLASS, holds
+from fieldprograms.answers import NoClass, NoPosition, ProgramFault, ProgramTooLong
+from fieldprograms.classes import CLASS_RANGES, both_empty, holds
 from fieldprograms.cursor import Cursor
 from fieldprograms.pieces import Constant, Part
 from fieldprograms.positions import BorderPosition, EndPosition
@@ -40,6 +40,39 @@ def read_second_program(text):
         return read_program(text)
     except ProgramFault as fault:
         raise ProgramFault(fault.kind + SECOND_KIND_STEP, fault.place) from None
+
+
+def read_lone_position(text):
+    """The position that is the whole text, as it's read in a program's."""
+    cursor = Cursor(text)
+    try:
+        position = read_position(cursor)
+    except ProgramFault:
+        raise NoPosition() from None
+    if not cursor.at_end():
+        raise NoPosition()
+    return position
+
+
+def read_lone_class(text):
+    """The class that is the whole text."""
+    cursor = Cursor(text)
+    try:
+        ranges = read_class(cursor)
+    except ProgramFault:
+        raise NoClass() from None
+    if not cursor.at_end():
+        raise NoClass()
+    return ranges
+
+
+def read_class_pair(left_text, right_text):
+    """The two classes, of which at least one isn't empty."""
+    left = read_lone_class(left_text)
+    right = read_lone_class(right_text)
+    if both_empty(left, right):
+        raise NoClass()
+    return (left, right)
 
 
 def read_pieces(cursor):
@@ -111,7 +144,7 @@ def read_border(cursor):
     left = read_class(cursor)
     cursor.take_sign("|")
     right = read_class(cursor)
-    if left == EMPTY_CLASS and right == EMPTY_CLASS:
+    if both_empty(left, right):
         raise ProgramFault(4, first)
     from_right = read_direction(cursor)
     return BorderPosition(left, right, from_right, read_number(cursor, 1, MOST_RANK))

@@ -1,6 +1,6 @@
-"""Reading a record."""
+"""Reading a record, and what is a field."""
 
-from fieldprograms.answers import NoRecord
+from fieldprograms.answers import NoField, NoRecord
 from fieldprograms.classes import holds
 
 MOST_FIELDS = 4
@@ -14,8 +14,7 @@ def read_record(numbers):
     if not 1 <= len(fields) <= MOST_FIELDS:
         raise NoRecord()
     for text in fields:
-        if not is_field(text):
-            raise NoRecord()
+        check_field(text)
     return fields
 
 
@@ -29,10 +28,9 @@ def split_record(numbers):
     return texts
 
 
-def is_field(text):
+def check_field(text):
     if len(text) > MOST_FIELD_BYTES:
-        return False
+        raise NoField()
     for byte in text:
         if not holds(FIELD_BYTES, byte):
-            return False
-    return True
+            raise NoField()

@@ -1,5 +1,6 @@
 """What the tests share: texts and records from letters, and how a call is asked."""
 
+import re
 import unittest
 
 EXAMPLE = '1[B|.+1:-0]^&", "&1[+0:+1]&"."'
@@ -17,6 +18,43 @@ FAULTS = (
     ("1[.|.+1:-0]", [4, 2]), ("1[+0:.|.-9]", [4, 5]),
     (SEVEN, [5, 24]), (SIX + "&", [5, 24]),
 )
+
+# What is a class and a position, as patterns have it.
+CLASS = r"(?:[DLUANB.]|'[!-/:-@\[-`{-~])"
+DISTANCE = r"(?:[1-5]?[0-9]|60)"
+RANK = r"(?:[1-9]|[1-3][0-9]|40)"
+BORDER = rf"(?!\.\|\.){CLASS}\|{CLASS}[+-]{RANK}"
+POSITION = rf"(?:[+-]{DISTANCE}|{BORDER})"
+
+CLASS_PATTERNS = {
+    "D": "[0-9]", "L": "[a-z]", "U": "[A-Z]", "A": "[A-Za-z]", "N": "[0-9A-Za-z]", "B": "[ ]",
+    "'-": "[-]", "'\"": "[\"]", "''": "[']", "'|": "[|]", "'.": "[.]", "'~": "[~]", "'!": "[!]",
+}
+SIGNS = (*CLASS_PATTERNS, ".")
+CLASS_PAIRS = [(left, right) for left in SIGNS for right in SIGNS if (left, right) != (".", ".")]
+FIELDS = ("", " ", "a", "7", "Ada Lovelace", "a1-b", "--a--B--", " x  Y1 22 ", "'|\"'.|\"", "a.b.c.", "!~!",
+          "ABCabc123ABC abc-123", "x" * 40, "-x" * 20)
+
+# Texts that are no field: too long, or with a byte that no field has.
+NO_FIELDS = ("x" * 41, "x" * 10000, "\x1f", "\x7f", "a\x1fb", "a\x7f", "\x00", "\xff", " " * 39 + "\n", [128] * 41)
+
+
+def border_places(left, right, field):
+    """The borders of two classes as patterns have them; a second way to find them."""
+    ends = "" if left == "." else f"(?<={CLASS_PATTERNS[left]})(?!{CLASS_PATTERNS[left]})"
+    begins = "" if right == "." else f"(?<!{CLASS_PATTERNS[right]})(?={CLASS_PATTERNS[right]})"
+    return [found.start() for found in re.finditer(ends + begins, field)]
+
+
+def near_texts(letters):
+    """Texts with one byte more, less or another, and the text's beginnings and ends."""
+    for place in range(len(letters) + 1):
+        for sign in "\x00\t !\"&'+-./0123456:[]^_`|~DLUANBCax\x7f\x80\xff":
+            yield letters[:place] + sign + letters[place:]
+            yield letters[:place] + sign + letters[place + 1:]
+        yield letters[:place]
+        yield letters[place:]
+        yield letters[:place] + letters[place + 1:]
 
 
 def as_second(fault):

@@ -4,13 +4,8 @@ import re
 import unittest
 
 from fieldprograms.desk import read
-from tests.helper import EXAMPLE, CallCase, text
+from tests.helper import EXAMPLE, POSITION, CallCase, near_texts, text
 
-CLASS = r"(?:[DLUANB.]|'[!-/:-@\[-`{-~])"
-DISTANCE = r"(?:[1-5]?[0-9]|60)"
-RANK = r"(?:[1-9]|[1-3][0-9]|40)"
-BORDER = rf"(?!\.\|\.){CLASS}\|{CLASS}[+-]{RANK}"
-POSITION = rf"(?:[+-]{DISTANCE}|{BORDER})"
 PART = rf"[1-4]\[{POSITION}:{POSITION}\][\^_~]?"
 CONSTANT = r'"(?:[ !#-~]|""){1,12}"'
 PIECE = rf"(?:{PART}|{CONSTANT})"
@@ -89,20 +84,11 @@ class LongTexts(CallCase):
 class AgainstTheGrammar(CallCase):
     """Texts near to programs are programs just if a pattern of the whole grammar says so."""
 
-    def near_texts(self, program):
-        for place in range(len(program) + 1):
-            for sign in "\x00\t !\"&'+-./0123456:[]^_`|~DLUANBCax\x7f\x80\xff":
-                yield program[:place] + sign + program[place:]
-                yield program[:place] + sign + program[place + 1:]
-            yield program[:place]
-            yield program[place:]
-            yield program[:place] + program[place + 1:]
-
     def test_programs_are_told_from_other_texts(self):
         programs = [EXAMPLE, "0", "2[.|'|-9:'''|D+40]~&\"\"\"\"", '"ab""c "&4[-60:+59]_', "3[A|U+31:N|.-10]"]
         found = {True: 0, False: 0}
         for program in programs:
-            for near in self.near_texts(program):
+            for near in near_texts(program):
                 is_program = PROGRAM.fullmatch(near) is not None
                 self.assertEqual(read(text(near))[0] == 0, is_program, near)
                 found[is_program] += 1

@@ -1,24 +1,9 @@
 """Promise 2: run."""
 
-import re
 import unittest
 
 from fieldprograms.desk import run
-from tests.helper import EXAMPLE, CallCase, record, text
-
-CLASS_PATTERNS = {
-    "D": "[0-9]", "L": "[a-z]", "U": "[A-Z]", "A": "[A-Za-z]", "N": "[0-9A-Za-z]", "B": "[ ]",
-    "'-": "[-]", "'\"": "[\"]", "''": "[']", "'|": "[|]", "'.": "[.]", "'~": "[~]", "'!": "[!]",
-}
-FIELDS = ("", " ", "a", "7", "Ada Lovelace", "a1-b", "--a--B--", " x  Y1 22 ", "'|\"'.|\"", "a.b.c.", "!~!",
-          "ABCabc123ABC abc-123", "x" * 40, "-x" * 20)
-
-
-def border_places(left, right, field):
-    """The borders of two classes as patterns have them; a second way to find them."""
-    ends = "" if left == "." else f"(?<={CLASS_PATTERNS[left]})(?!{CLASS_PATTERNS[left]})"
-    begins = "" if right == "." else f"(?<!{CLASS_PATTERNS[right]})(?={CLASS_PATTERNS[right]})"
-    return [found.start() for found in re.finditer(ends + begins, field)]
+from tests.helper import CLASS_PAIRS, EXAMPLE, FIELDS, CallCase, border_places, record, text
 
 
 class RunCase(CallCase):
@@ -99,8 +84,7 @@ class BorderPositions(RunCase):
         self.assert_gives_nothing(0, "1[.|'-+21:-0]", "-x" * 20)
 
     def test_every_pair_of_classes(self):
-        signs = list(CLASS_PATTERNS) + ["."]
-        for left, right in [(left, right) for left in signs for right in signs if (left, right) != (".", ".")]:
+        for left, right in CLASS_PAIRS:
             for field in FIELDS:
                 self.check_borders(left, right, field)
 

@@ -39,7 +39,7 @@ class NoPosition(OtherAnswer):
 
 
 class NoClass(OtherAnswer):
-    """A text isn't just one class, or both of two classes are empty."""
+    """A text isn't just one class, or no class but the empty one is told."""
 
     def __init__(self):
         OtherAnswer.__init__(self, [-4])

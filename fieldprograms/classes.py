@@ -60,3 +60,9 @@ def ends(ranges, text, place):
 def border_places(left, right, text):
     """All borders of the two classes, from left to right."""
     return [place for place in range(len(text) + 1) if ends(left, text, place) and begins(right, text, place)]
+
+
+def run_places(ranges, text):
+    """Where each run of a class that isn't empty begins and ends, from left to right."""
+    # Of such a class every place at which it begins has its end as the next one, so no pairs have to be sought.
+    return [place for place in range(len(text) + 1) if begins(ranges, text, place) or ends(ranges, text, place)]

@@ -1,9 +1,10 @@
 """The calls. Each is by itself, and answers one list of whole numbers."""
 
 from fieldprograms.answers import OtherAnswer
-from fieldprograms.classes import border_places
-from fieldprograms.programs import all_given, joined, order_key, piece_costs, program_written
-from fieldprograms.reader import read_class_pair, read_lone_position, read_program, read_second_program
+from fieldprograms.classes import border_places, run_places
+from fieldprograms.programs import all_given, fields_of, joined, order_key, piece_costs, program_written
+from fieldprograms.reader import read_class_of_runs, read_class_pair, read_lone_position
+from fieldprograms.reader import read_program, read_second_program
 from fieldprograms.records import check_field, read_record
 
 
@@ -101,8 +102,27 @@ def borders(l, r, t):
     return [0] + border_places(classes[0], classes[1], t)
 
 
+def runs(class_text, t):
+    """Where each run of the class in the text begins and ends."""
+    try:
+        ranges = read_class_of_runs(class_text)
+        check_field(t)
+    except OtherAnswer as other:
+        return other.answer
+    return [0] + run_places(ranges, t)
+
+
+def fields(program):
+    """The fields that the program's parts name."""
+    try:
+        pieces = read_program(program)
+    except OtherAnswer as other:
+        return other.answer
+    return [0] + fields_of(pieces)
+
+
 def given_on(program, record):
     # The program is read first, since what is wrong with it comes ahead of a wrong record.
     pieces = read_program(program)
-    fields = read_record(record)
-    return all_given(pieces, fields)
+    texts = read_record(record)
+    return all_given(pieces, texts)

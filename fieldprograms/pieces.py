@@ -48,6 +48,9 @@ class Constant:
     def give(self, fields):
         return Given(self.text, 0, 0, 0)
 
+    def fields_named(self):
+        return []
+
     def cost(self):
         return 3 + 2 * len(self.text)
 
@@ -80,6 +83,9 @@ class Part:
         if begin is None or end is None or begin >= end:
             return None
         return Given(turned(text[begin:end], self.turn), self.field, begin, end)
+
+    def fields_named(self):
+        return [self.field]
 
     def cost(self):
         total = 2 + self.first.cost() + self.second.cost()

@@ -1,6 +1,7 @@
-"""Programs, as lists of pieces: what they cost and give, their order, and how they are joined and written."""
+"""Programs, as lists of pieces: what they cost, name and give, their order, and how they are joined and written."""
 
 from fieldprograms.answers import PieceGivesNothing, TooManyPieces
+from fieldprograms.records import MOST_FIELDS
 from fieldprograms.signs import as_bytes
 
 MOST_PIECES = 6
@@ -29,6 +30,14 @@ def program_written(pieces):
     for piece in pieces[1:]:
         written = written + as_bytes("&") + piece.written()
     return written
+
+
+def fields_of(pieces):
+    """The fields that the parts name, rising, each once."""
+    named = []
+    for piece in pieces:
+        named.extend(piece.fields_named())
+    return [field for field in range(1, MOST_FIELDS + 1) if field in named]
 
 
 def all_given(pieces, fields):

@@ -1,7 +1,7 @@
 """Reading a program's text, and a position or a class that stands alone."""
 
 from fieldprograms.answers import NoClass, NoPosition, ProgramFault, ProgramTooLong
-from fieldprograms.classes import CLASS_RANGES, both_empty, holds
+from fieldprograms.classes import CLASS_RANGES, EMPTY_CLASS, both_empty, holds
 from fieldprograms.cursor import Cursor
 from fieldprograms.pieces import Constant, Part
 from fieldprograms.positions import BorderPosition, EndPosition
@@ -62,6 +62,14 @@ def read_lone_class(text):
     except ProgramFault:
         raise NoClass() from None
     if not cursor.at_end():
+        raise NoClass()
+    return ranges
+
+
+def read_class_of_runs(text):
+    """The class that is the whole text and isn't empty: the empty class has no runs."""
+    ranges = read_lone_class(text)
+    if ranges == EMPTY_CLASS:
         raise NoClass()
     return ranges
 

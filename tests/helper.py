@@ -35,6 +35,15 @@ CLASS_PAIRS = [(left, right) for left in SIGNS for right in SIGNS if (left, righ
 FIELDS = ("", " ", "a", "7", "Ada Lovelace", "a1-b", "--a--B--", " x  Y1 22 ", "'|\"'.|\"", "a.b.c.", "!~!",
           "ABCabc123ABC abc-123", "x" * 40, "-x" * 20)
 
+# The signs that have a class of their own, and the bytes that have none.
+SINGLES = [chr(byte) for byte in range(33, 127) if not chr(byte).isalnum()]
+NO_SINGLES = [byte for byte in range(256) if chr(byte) not in SINGLES]
+
+# Texts that are not just one class.
+NO_CLASSES = ("", "x", "C", "d", "0", "1", " ", "-", "|", "\"", "'", "+0", "A|L", "A|L+1", "\x00", "\xff",
+              "DD", "AN", "A ", " A", "A.", "..", ".A", "A'", "'-'", "'--", "'- ", "'-.", "'''", "''.", "A|", "|A",
+              "B\n", "D" * 1000, "D" * 10000, "'" * 10000, "." * 1001)
+
 # Texts that are no field: too long, or with a byte that no field has.
 NO_FIELDS = ("x" * 41, "x" * 10000, "\x1f", "\x7f", "a\x1fb", "a\x7f", "\x00", "\xff", " " * 39 + "\n", [128] * 41)
 

@@ -4,13 +4,8 @@ import re
 import unittest
 
 from fieldprograms.desk import borders, place
-from tests.helper import CLASS, CLASS_PAIRS, FIELDS, NO_FIELDS, CallCase, border_places, near_texts, text
-
-SINGLES = [chr(byte) for byte in range(33, 127) if not chr(byte).isalnum()]
-NO_SINGLES = [byte for byte in range(256) if chr(byte) not in SINGLES]
-NO_CLASSES = ("", "x", "C", "d", "0", "1", " ", "-", "|", "\"", "'", "+0", "A|L", "A|L+1", "\x00", "\xff",
-              "DD", "AN", "A ", " A", "A.", "..", ".A", "A'", "'-'", "'--", "'- ", "'-.", "'''", "''.", "A|", "|A",
-              "B\n", "D" * 1000, "D" * 10000, "'" * 10000, "." * 1001)
+from tests.helper import CLASS, CLASS_PAIRS, FIELDS, NO_CLASSES, NO_FIELDS, NO_SINGLES, SINGLES, CallCase
+from tests.helper import border_places, near_texts, text
 
 
 class BordersCase(CallCase):

@@ -59,6 +59,13 @@ class NoRecord(OtherAnswer):
         OtherAnswer.__init__(self, [-1])
 
 
+class NoFieldNumber(OtherAnswer):
+    """A number is no field's number."""
+
+    def __init__(self):
+        OtherAnswer.__init__(self, [-2])
+
+
 class PieceGivesNothing(OtherAnswer):
     """A program gives nothing, because the piece of this number gives nothing."""
 

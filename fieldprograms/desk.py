@@ -5,7 +5,7 @@ from fieldprograms.classes import border_places, run_places
 from fieldprograms.programs import all_given, fields_of, joined, order_key, piece_costs, program_written
 from fieldprograms.reader import read_class_of_runs, read_class_pair, read_lone_position
 from fieldprograms.reader import read_program, read_second_program
-from fieldprograms.records import check_field, read_record
+from fieldprograms.records import check_field, check_field_numbers, read_record
 
 
 def read(program):
@@ -119,6 +119,17 @@ def fields(program):
     except OtherAnswer as other:
         return other.answer
     return [0] + fields_of(pieces)
+
+
+def moved(a, b, c, d, program):
+    """The program with the four numbers in the places of its fields 1 to 4, written."""
+    numbers = [a, b, c, d]
+    try:
+        check_field_numbers(numbers)
+        pieces = read_program(program)
+    except OtherAnswer as other:
+        return other.answer
+    return [0] + program_written([piece.with_fields(numbers) for piece in pieces])
 
 
 def given_on(program, record):

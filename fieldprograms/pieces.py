@@ -51,6 +51,9 @@ class Constant:
     def fields_named(self):
         return []
 
+    def with_fields(self, numbers):
+        return self
+
     def cost(self):
         return 3 + 2 * len(self.text)
 
@@ -86,6 +89,10 @@ class Part:
 
     def fields_named(self):
         return [self.field]
+
+    def with_fields(self, numbers):
+        """The piece with the first of the numbers in the place of the field 1, the second of 2, and so on."""
+        return Part(numbers[self.field - 1], self.first, self.second, self.turn)
 
     def cost(self):
         total = 2 + self.first.cost() + self.second.cost()

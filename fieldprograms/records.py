@@ -1,6 +1,6 @@
-"""Reading a record, and what is a field."""
+"""Reading a record, and what is a field and a field's number."""
 
-from fieldprograms.answers import NoField, NoRecord
+from fieldprograms.answers import NoField, NoFieldNumber, NoRecord
 from fieldprograms.classes import holds
 
 MOST_FIELDS = 4
@@ -34,3 +34,9 @@ def check_field(text):
     for byte in text:
         if not holds(FIELD_BYTES, byte):
             raise NoField()
+
+
+def check_field_numbers(numbers):
+    for number in numbers:
+        if not 1 <= number <= MOST_FIELDS:
+            raise NoFieldNumber()

@@ -35,9 +35,10 @@ CLASS_PAIRS = [(left, right) for left in SIGNS for right in SIGNS if (left, righ
 FIELDS = ("", " ", "a", "7", "Ada Lovelace", "a1-b", "--a--B--", " x  Y1 22 ", "'|\"'.|\"", "a.b.c.", "!~!",
           "ABCabc123ABC abc-123", "x" * 40, "-x" * 20)
 
-# The signs that have a class of their own, and the bytes that have none.
+# The signs that have a class of their own, the bytes that have none, and every class that isn't empty.
 SINGLES = [chr(byte) for byte in range(33, 127) if not chr(byte).isalnum()]
 NO_SINGLES = [byte for byte in range(256) if chr(byte) not in SINGLES]
+FILLED_CLASSES = list("DLUANB") + ["'" + sign for sign in SINGLES]
 
 # Texts that are not just one class.
 NO_CLASSES = ("", "x", "C", "d", "0", "1", " ", "-", "|", "\"", "'", "+0", "A|L", "A|L+1", "\x00", "\xff",
@@ -95,24 +96,30 @@ class Unchanging(list):
     __setitem__ = __delitem__ = __iadd__ = __imul__ = refuse
 
 
+def copied(arguments, kind):
+    """The arguments with each list made anew, as a list of this kind; numbers stay."""
+    return [kind(argument) if isinstance(argument, list) else argument for argument in arguments]
+
+
 class CallCase(unittest.TestCase):
     def ask(self, call, *arguments):
         """The answer; on the way, what is promised of every call is checked."""
-        before = [list(argument) for argument in arguments]
-        answer = call(*[Unchanging(argument) for argument in arguments])
+        answer = call(*copied(arguments, Unchanging))
         self.assertIs(type(answer), list)
         for number in answer:
             self.assertIs(type(number), int)
         first = list(answer)
-        # An answer is its asker's own: what is done to it must not be seen in a later one.
+        # An answer is its asker's own: what is done to it is seen neither in a later one nor in what was handed in.
         answer.append(-99)
-        again = [list(argument) for argument in arguments]
-        self.assertEqual(call(*again), first)
-        self.assertEqual(again, before)
+        again = copied(arguments, list)
+        answer = call(*again)
+        self.assertEqual(answer, first)
+        answer.append(-99)
+        self.assertEqual(again, list(arguments))
         return first
 
     def assert_answer(self, expected, call, *arguments):
-        """arguments: texts told by letters, or lists as the call takes them."""
+        """arguments: texts told by letters, or lists and numbers as the call takes them."""
         numbers = [text(argument) if isinstance(argument, str) else argument for argument in arguments]
         with self.subTest(arguments=arguments):
             self.assertEqual(self.ask(call, *numbers), expected)

@@ -3,10 +3,7 @@
 import unittest
 
 from fieldprograms.desk import compare, cost, join, read, run
-from tests.helper import EXAMPLE, FAULTS, SEVEN, SIX, TOO_LONG, CallCase, as_second, record, text
-
-SINGLES = ["'" + chr(byte) for byte in range(33, 127) if not chr(byte).isalnum()]
-CLASSES = list("DLUANB") + SINGLES
+from tests.helper import EXAMPLE, FAULTS, FILLED_CLASSES, SEVEN, SIX, TOO_LONG, CallCase, as_second, record, text
 
 
 def constants(count, sign="a"):
@@ -96,7 +93,7 @@ class Written(JoinCase):
             self.assert_written(f"1[U|B-{rank}:A|N+{rank}]")
 
     def test_classes(self):
-        for sign in CLASSES:
+        for sign in FILLED_CLASSES:
             self.assert_written(f"1[{sign}|.+1:.|{sign}-1]")
             self.assert_written(f"1[.|{sign}+1:{sign}|.-1]")
             self.assert_written(f"1[{sign}|{sign}+1:-0]")

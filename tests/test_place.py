@@ -147,7 +147,7 @@ class NoPositions(PlaceCase):
         self.assert_no_position("+1" + " " * 9998, "A|L+1" * 2000, "'" * 10000, "." * 10000, "-" * 10000)
 
     def test_positions_are_told_from_other_texts(self):
-        positions = ("+0", "-60", "+59", "A|L+1", ".|B-40", "'||'''+39", "'.|.-9", "D|'\"-10")
+        positions = ("+0", "-60", "+59", "A|L+1", ".|B-40", "'||''+39", "'.|.-9", "D|'\"-10")
         found = {True: 0, False: 0}
         for position in positions:
             for near in near_texts(position):

@@ -85,7 +85,7 @@ class AgainstTheGrammar(CallCase):
     """Texts near to programs are programs just if a pattern of the whole grammar says so."""
 
     def test_programs_are_told_from_other_texts(self):
-        programs = [EXAMPLE, "0", "2[.|'|-9:'''|D+40]~&\"\"\"\"", '"ab""c "&4[-60:+59]_', "3[A|U+31:N|.-10]"]
+        programs = [EXAMPLE, "0", "2[.|'|-9:''|D+40]~&\"\"\"\"", '"ab""c "&4[-60:+59]_', "3[A|U+31:N|.-10]"]
         found = {True: 0, False: 0}
         for program in programs:
             for near in near_texts(program):
